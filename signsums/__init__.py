@@ -1,0 +1,1 @@
+"""Signsums: rows of numbers and their sums with signs."""
