@@ -1,18 +1,34 @@
 """What all rows have in common: their form, their steps, the signs of their places."""
 
-from signsums.errors import NoRow
+from signsums.errors import NoMatch, NoRow, NoSigns, NoStep
 
 LENGTHS = (1, 2, 4, 8, 16, 32)
 # 10 ** 20, written out because a file's top holds plain values alone.
 GREATEST = 100000000000000000000
 
 
+def is_row(numbers):
+    return len(numbers) in LENGTHS and all([abs(number) <= GREATEST for number in numbers])
+
+
 def check_row(row):
-    if len(row) not in LENGTHS:
-        raise NoRow("a row has 1, 2, 4, 8, 16 or 32 numbers")
-    for number in row:
-        if abs(number) > GREATEST:
-            raise NoRow("a number of a row is from -10 ** 20 to 10 ** 20")
+    if not is_row(row):
+        raise NoRow("a row has 1, 2, 4, 8, 16 or 32 numbers, each from -10 ** 20 to 10 ** 20")
+
+
+def check_match(one, other):
+    if len(one) != len(other):
+        raise NoMatch("the two rows are not as long as one another")
+
+
+def check_signs(row):
+    if any([number not in (1, -1) for number in row]):
+        raise NoSigns("a sign row has numbers 1 and -1 alone")
+
+
+def check_steps(steps):
+    if not 0 <= steps < len(LENGTHS):
+        raise NoStep("a row has from 0 to 5 steps")
 
 
 def steps_of(row):

@@ -1,14 +1,13 @@
 """Rows made of other rows: woven, tied, halved."""
 
-from signsums.errors import NoMatch, NoStep, TooLong
-from signsums.rows import LENGTHS, check_row, steps_of
+from signsums.errors import NoStep, TooLong
+from signsums.rows import LENGTHS, check_match, check_row, steps_of
 
 
 def woven(one, other):
     check_row(one)
     check_row(other)
-    if len(one) != len(other):
-        raise NoMatch("rows that are woven are as long as one another")
+    check_match(one, other)
     return [woven_at(one, other, place) for place in range(len(one))]
 
 

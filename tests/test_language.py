@@ -1,129 +1,112 @@
 """The part of Python that the package keeps to; with it point [1]: no clock, chance or files."""
 
-import ast
-import builtins
 import pathlib
-import re
 import unittest
+
+from language import faults, faults_between
 
 PACKAGE = pathlib.Path(__file__).resolve().parent.parent / "signsums"
 
-OWN_NAMES = set(
-    "len range enumerate zip min max sum abs sorted reversed int str bool list tuple dict set frozenset isinstance "
-    "ord repr any all divmod Exception ValueError KeyError IndexError LookupError ZeroDivisionError ArithmeticError "
-    "OverflowError RuntimeError NotImplementedError StopIteration".split()
+TOP = '"""Why."""\n'
+GOOD = (
+    "X = 5",
+    "X = (1, 2)",
+    "from signsums.errors import NoRow",
+    "class Mine(ValueError):\n    pass",
+    "def f(a, b=1):\n    return [x for x in a if x > b]",
+    "def f(a):\n    return sum([1 for x, y in zip(a, a) if x != y])",
+    "def f(a):\n    return f'{a} {a!r}'",
+    "def f(a):\n    return ' '.join([str(x) for x in a])",
+    "def f(a):\n    if a is None:\n        raise ValueError('why')\n    return a ** 20",
+    "def f(a):\n    return min(a, key=lambda x: -x)",
 )
-METHODS = set(
-    "append clear copy count endswith extend find get index insert isalnum isalpha isdigit islower isspace isupper "
-    "items join keys ljust lower lstrip partition pop remove replace reverse rfind rjust rpartition rsplit rstrip "
-    "setdefault split splitlines startswith strip update upper values zfill bit_length".split()
+# Each leaves one rule.
+BAD = (
+    "import os", "import signsums.rows", "from os import path", "from .rows import is_row", "from signsums import rows",
+    "from signsums.rows import *", "def f():\n    from signsums.rows import is_row\n    return is_row",
+    "X = 10 ** 20", "X = [[1], [2]]", "X = len('a')", "print(1)", "for x in (1, 2):\n    pass", "if True:\n    pass",
+    "X = 1\nX = 2", "X = Y = 1", "def f():\n    pass\ndef f():\n    pass", "X = 1\ndef f(X):\n    return X",
+    "def f(*a):\n    return a", "def f(**a):\n    return a", "def f(a, *, b):\n    return a", "@f\ndef g():\n    pass",
+    "def f(a: int):\n    return a", "def f(a) -> int:\n    return a", "def f(a, b=g()):\n    return a",
+    "class A(B, C):\n    pass", "class A:\n    x = 1", "def f():\n    class A:\n        pass",
+    "def f():\n    with g() as a:\n        pass", "def f(a):\n    del a", "def f(a):\n    assert a",
+    "def f():\n    global a\n    a = 1", "def f(a):\n    yield a", "async def f(a):\n    return a",
+    "def f(a):\n    for x in a:\n        pass\n    else:\n        pass", "def f(a):\n    match a:\n        case 1:\n"
+    "            pass", "def f(a):\n    try:\n        f(a)\n    finally:\n        pass",
+    "def f(a):\n    try:\n        f(a)\n    except:\n        pass",
+    "def f(a):\n    try:\n        f(a)\n    except Exception:\n        pass",
+    "def f(a):\n    try:\n        f(a)\n    except ValueError:\n        pass",
+    "def f(a):\n    a == 1", "def f(a):\n    return a / 2", "def f():\n    return 1.5", "def f():\n    return b'a'",
+    "def f(a):\n    return {1, 2}", "def f(a):\n    return set(a)", "def f(a):\n    return {x for x in a}",
+    "def f(a):\n    return {x: x for x in a}", "def f(a):\n    return sum(x for x in a)",
+    "def f(a):\n    return (b := a)", "def f(a):\n    return [*a]", "def f(a):\n    return f(*a)",
+    "def f(a):\n    return f(**a)", "def f(a):\n    return [x for y in a for x in y]",
+    "def f(a):\n    return [x for x in a if x if x > 1]", "def f(a):\n    return f'{a + 1}'",
+    "def f(a):\n    return f'{a:>5}'", "def f(a):\n    return hash(a)", "def f(a):\n    return pow(a, 2)",
+    "def f(a):\n    return chr(a)", "def f(a):\n    return open(a)", "def f(a):\n    return print(a)",
+    "def f(len):\n    return len", "def f(id):\n    return id", "def f(a):\n    sum = a\n    return sum",
+    "def f(_a):\n    return _a", "def f(a):\n    return [1 for _ in a]", "def f(a):\n    return a.sort()",
+    "def f(a):\n    return a.format(1)", "def f(a):\n    return a.append", "def f(a):\n    b = len\n    return b(a)",
+    "def f(a):\n    b = range(a)\n    return b", "def f(a):\n    return zip(a, a)",
+    "def f(a):\n    b = a.items()\n    return b", "def f(a):\n    return a.split(sep=' ')",
+    "def f(a):\n    return int(a, base=10)", "def f(a):\n    return 2 ** a", "def f(a):\n    return a ** 65",
+    "def f(a):\n    return '%' + a", "def f(a):\n    return '\\x41' + a", "def f(a, b):\n    return a is b",
+    "# of this type", "# a dataclass", "# \u00e4", "def f(a):\n\treturn a", "# " + "a" * 119, "# a\n" * 400,
+    "def f(a):\n" + "    f(a)\n" * 40, "def f(a):\n    print('a')", "def f(a):\n    return a.real",
 )
-WORDS_OUT = re.compile(
-    r"\b(type|typing|typing_extensions|enum|Enum|IntEnum|StrEnum|Flag|IntFlag|Generic|Protocol|ABC|ABCMeta|"
-    r"namedtuple|NamedTuple|TypedDict|TYPE_CHECKING|abstractmethod)\b|dataclass|overload|contextmanager"
-)
-NODES_OUT = (
-    ast.Import, ast.With, ast.Match, ast.Delete, ast.Global, ast.Nonlocal, ast.Assert, ast.Yield, ast.YieldFrom,
-    ast.AsyncFunctionDef, ast.Await, ast.SetComp, ast.DictComp, ast.GeneratorExp, ast.NamedExpr, ast.Starred,
-    ast.Div, ast.MatMult, ast.AnnAssign,
-)
+
+
+def texts():
+    return {path.stem: path.read_bytes().decode("utf-8") for path in files()}
 
 
 def files():
     return sorted(path for path in PACKAGE.rglob("*") if path.is_file() and "__pycache__" not in path.parts)
 
 
-def trees():
-    return [(path, ast.parse(path.read_text(encoding="ascii"))) for path in files()]
-
-
-def names_bound(tree):
-    found = set()
-    for node in ast.walk(tree):
-        if isinstance(node, (ast.FunctionDef, ast.ClassDef)):
-            found.add(node.name)
-        elif isinstance(node, ast.Name) and isinstance(node.ctx, ast.Store):
-            found.add(node.id)
-        elif isinstance(node, ast.arg):
-            found.add(node.arg)
-        elif isinstance(node, ast.alias):
-            found.add(node.asname or node.name)
-        elif isinstance(node, ast.ExceptHandler) and node.name:
-            found.add(node.name)
-    return found
-
-
-class TestFiles(unittest.TestCase):
-    def test_there_are_python_files_of_plain_names_alone(self):
+class TestPackage(unittest.TestCase):
+    def test_one_folder_of_python_files(self):
         names = [path.relative_to(PACKAGE).as_posix() for path in files()]
-        self.assertIn("__init__.py", names)
-        for name in names:
-            self.assertRegex(name, r"^(__init__|[a-z][a-z0-9_]*)\.py$")
+        self.assertEqual(sorted(names), sorted(f"{module}.py" for module in texts()))
+        for module in ("__init__", "errors", "sums", "woven", "straight", "flat", "notes"):
+            self.assertIn(module, texts())
 
-    def test_signs_and_sizes(self):
-        for path in files():
-            text = path.read_bytes().decode("ascii")
-            self.assertRegex(text, r"\A[ -~\n]*\Z", path)
-            lines = text.split("\n")
-            self.assertLessEqual(len(lines), 400, path)
-            self.assertLessEqual(max(len(line) for line in lines), 120, path)
-            self.assertIsNone(WORDS_OUT.search(text), path)
+    def test_each_file_keeps_to_the_rules(self):
+        for module, text in texts().items():
+            self.assertEqual(faults(module, text), [], module)
 
-    def test_functions_are_short(self):
-        for path, tree in trees():
-            for node in ast.walk(tree):
-                if isinstance(node, ast.FunctionDef):
-                    self.assertLessEqual(node.end_lineno - node.lineno + 1, 40, (path, node.name))
-                    self.assertEqual(node.decorator_list, [], (path, node.name))
+    def test_the_files_together(self):
+        self.assertEqual(faults_between(texts()), [])
 
 
-class TestNames(unittest.TestCase):
-    def test_imports_are_from_the_package_alone(self):
-        for path, tree in trees():
-            for node in ast.walk(tree):
-                if isinstance(node, ast.ImportFrom):
-                    self.assertEqual(node.level, 0, path)
-                    self.assertRegex(node.module, r"^signsums\.[a-z0-9_]+$", path)
-                    self.assertIn(node, tree.body, path)
+class TestReader(unittest.TestCase):
+    """The reader itself, so that a rule that is left is seen."""
 
-    def test_only_the_listed_names_of_python(self):
-        for path, tree in trees():
-            bound = names_bound(tree)
-            self.assertEqual(sorted(bound & set(dir(builtins))), [], path)
-            for node in ast.walk(tree):
-                if isinstance(node, ast.Name):
-                    self.assertIn(node.id, bound | OWN_NAMES, (path, node.lineno))
-                if isinstance(node, ast.Attribute):
-                    self.assertIn(node.attr, METHODS, (path, node.lineno))
+    def test_what_keeps_to_the_rules(self):
+        for text in GOOD:
+            with self.subTest(text=text):
+                self.assertEqual(faults("some", TOP + text + "\n"), [])
 
-    def test_plain_names(self):
-        for path, tree in trees():
-            for name in names_bound(tree):
-                self.assertRegex(name, r"^[A-Za-z][A-Za-z0-9_]*$", path)
+    def test_what_leaves_them(self):
+        for text in BAD:
+            with self.subTest(text=text):
+                self.assertNotEqual(faults("some", TOP + text + "\n"), [])
 
+    def test_names_of_files(self):
+        for module in ("sum", "test", "tests", "test_rows", "format", "Rows", "_rows", "__other__", "enum", "site"):
+            with self.subTest(module=module):
+                self.assertNotEqual(faults(module, TOP), [])
 
-class TestForms(unittest.TestCase):
-    def test_no_form_that_is_out(self):
-        for path, tree in trees():
-            for node in ast.walk(tree):
-                self.assertNotIsInstance(node, NODES_OUT, (path, getattr(node, "lineno", None)))
-                if isinstance(node, ast.Constant):
-                    self.assertNotIsInstance(node.value, (float, complex, bytes), (path, node.lineno))
-                    if isinstance(node.value, str):
-                        self.assertNotIn("%", node.value, (path, node.lineno))
-                if isinstance(node, ast.Assign):
-                    self.assertEqual(len(node.targets), 1, (path, node.lineno))
-                if isinstance(node, ast.ListComp):
-                    self.assertEqual(len(node.generators), 1, (path, node.lineno))
+    def test_a_file_without_a_docstring(self):
+        self.assertNotEqual(faults("some", "X = 1\n"), [])
 
-    def test_the_top_of_a_file_does_nothing(self):
-        allowed = (ast.ImportFrom, ast.FunctionDef, ast.ClassDef, ast.Assign)
-        for path, tree in trees():
-            self.assertIsNotNone(ast.get_docstring(tree), path)
-            for node in tree.body[1:]:
-                self.assertIsInstance(node, allowed, (path, node.lineno))
-                if isinstance(node, ast.Assign):
-                    ast.literal_eval(node.value)
+    def test_files_together(self):
+        one = "from signsums.b import g\ndef f():\n    return g()\n"
+        other = "from signsums.a import f\ndef g():\n    return f()\n"
+        self.assertNotEqual(faults_between({"__init__": TOP, "a": one, "b": other}), [])
+        self.assertNotEqual(faults_between({"__init__": TOP, "a": one, "b": TOP}), [])
+        self.assertNotEqual(faults_between({"__init__": "a = 1\n", "a": TOP}), [])
+        self.assertEqual(faults_between({"__init__": TOP, "a": one, "b": "def g():\n    return 1\n"}), [])
 
 
 if __name__ == "__main__":
